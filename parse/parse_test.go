@@ -8,6 +8,7 @@ import (
 	"testing"
 
 	"transclude/api"
+	"transclude/sample"
 	"transclude/token"
 	"transclude/tree"
 )
@@ -528,21 +529,6 @@ func mustBeAsSlow(t *testing.T, s string) {
 	mustFit(t, s, got)
 }
 
-// texts calls f with every text that consists of at most n of the pieces.
-func texts(n int, pieces []string, f func(string)) {
-	var extend func(s string, left int)
-	extend = func(s string, left int) {
-		f(s)
-		if left == 0 {
-			return
-		}
-		for _, p := range pieces {
-			extend(s+p, left-1)
-		}
-	}
-	extend("", n)
-}
-
 func allPieces() []string {
 	return []string{"a", "\n", "\xff", "|", "=", "{", "}", "{{", "{{{", "}}", "}}}", "[[", "]]", "<!--c-->", "<nowiki>n</nowiki>", "<nowiki>",
 		"<noinclude>", "</noinclude>", "<includeonly>", "</includeonly>", "<onlyinclude>", "</onlyinclude>"}
@@ -550,11 +536,11 @@ func allPieces() []string {
 
 func TestAllShortTexts(t *testing.T) {
 	check := func(s string) { mustBeAsSlow(t, s) }
-	texts(3, allPieces(), check)
-	texts(8, []string{"{", "}", "a", "|"}, check)
-	texts(6, []string{"{{", "}}", "[[", "]]", "|", "="}, check)
-	texts(6, []string{"{{{", "}}", "|", "=", "<noinclude>", "</noinclude>"}, check)
-	texts(6, []string{"<noinclude>", "</noinclude>", "<onlyinclude>", "</onlyinclude>", "[[", "{{|"}, check)
+	sample.Texts(3, allPieces(), check)
+	sample.Texts(8, []string{"{", "}", "a", "|"}, check)
+	sample.Texts(6, []string{"{{", "}}", "[[", "]]", "|", "="}, check)
+	sample.Texts(6, []string{"{{{", "}}", "|", "=", "<noinclude>", "</noinclude>"}, check)
+	sample.Texts(6, []string{"<noinclude>", "</noinclude>", "<onlyinclude>", "</onlyinclude>", "[[", "{{|"}, check)
 }
 
 func TestLongTexts(t *testing.T) {

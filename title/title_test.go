@@ -7,6 +7,7 @@ import (
 	"testing"
 
 	"transclude/api"
+	"transclude/sample"
 )
 
 func mustBeValid(t *testing.T, x api.Title, want bool) {
@@ -32,20 +33,9 @@ func mustFail(t *testing.T, s string, want api.Errno) {
 	}
 }
 
-// texts calls f with every text that consists of at most n of the pieces.
-func texts(n int, f func(string)) {
-	pieces := []string{" ", "_", ":", "/", "a", "B", "#", "\xff", "talk", "User"}
-	var extend func(s string, left int)
-	extend = func(s string, left int) {
-		f(s)
-		if left == 0 {
-			return
-		}
-		for _, p := range pieces {
-			extend(s+p, left-1)
-		}
-	}
-	extend("", n)
+// pieces are what sample.Texts makes titles of.
+func pieces() []string {
+	return []string{" ", "_", ":", "/", "a", "B", "#", "\xff", "talk", "User"}
 }
 
 // P1.1
@@ -214,7 +204,7 @@ func plainParse(s string) (api.Title, api.Errno) {
 }
 
 func TestParseAllShortTexts(t *testing.T) {
-	texts(5, func(s string) {
+	sample.Texts(5, pieces(), func(s string) {
 		got, err := Parse(s)
 		want, wantErr := plainParse(s)
 		if got != want || err != wantErr {
@@ -240,7 +230,7 @@ func TestFormat(t *testing.T) {
 
 func TestParseOfFormat(t *testing.T) {
 	count := 0
-	texts(4, func(name string) {
+	sample.Texts(4, pieces(), func(name string) {
 		for space := range api.Spaces {
 			x := api.Title{Space: space, Name: name}
 			if !Valid(x) {
@@ -307,7 +297,7 @@ func TestAncestors(t *testing.T) {
 }
 
 func TestAncestorsAreValid(t *testing.T) {
-	texts(4, func(s string) {
+	sample.Texts(4, pieces(), func(s string) {
 		x := api.Title{Name: "A/" + s + "/b"}
 		above := Ancestors(x)
 		if Valid(x) && len(above) != strings.Count(x.Name, "/") {

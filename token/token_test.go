@@ -8,6 +8,7 @@ import (
 	"testing"
 
 	"transclude/api"
+	"transclude/sample"
 )
 
 // piece is a token with its text in place of its offsets.
@@ -43,21 +44,6 @@ func mustBeOne(t *testing.T, kind int, texts ...string) {
 	for _, s := range texts {
 		mustScan(t, s, piece{kind, s})
 	}
-}
-
-// texts calls f with every text that consists of at most n of the pieces.
-func texts(n int, pieces []string, f func(string)) {
-	var extend func(s string, left int)
-	extend = func(s string, left int) {
-		f(s)
-		if left == 0 {
-			return
-		}
-		for _, p := range pieces {
-			extend(s+p, left-1)
-		}
-	}
-	extend("", n)
 }
 
 // P2.1
@@ -212,11 +198,11 @@ func TestScanAllShortTexts(t *testing.T) {
 			t.Fatalf("Scan(%q) = %v, %v, want %v", s, got, err, want)
 		}
 	}
-	texts(3, []string{"a", "\xff", "\n", "|", "=", "{", "}", "[", "]", "<", "/", "!", "-", ">", "nowiki", "<!--", "-->",
+	sample.Texts(3, []string{"a", "\xff", "\n", "|", "=", "{", "}", "[", "]", "<", "/", "!", "-", ">", "nowiki", "<!--", "-->",
 		"<nowiki>", "</nowiki>", "<noinclude>", "</includeonly>", "<onlyinclude>"}, check)
-	texts(7, []string{"<", "!--", "-", ">", "{"}, check)
-	texts(7, []string{"{", "}", "[", "]", "a"}, check)
-	texts(5, []string{"<nowiki>", "</nowiki>", "<!--", "-->", "}", "<noinclude>"}, check)
+	sample.Texts(7, []string{"<", "!--", "-", ">", "{"}, check)
+	sample.Texts(7, []string{"{", "}", "[", "]", "a"}, check)
+	sample.Texts(5, []string{"<nowiki>", "</nowiki>", "<!--", "-->", "}", "<noinclude>"}, check)
 }
 
 // P2.2
@@ -244,7 +230,7 @@ func TestText(t *testing.T) {
 }
 
 func TestTextsOfTokens(t *testing.T) {
-	texts(3, []string{"a", "\n", "|", "{", "}", "[", "<nowiki>", "</nowiki>", "<!--", "<noinclude>"}, func(s string) {
+	sample.Texts(3, []string{"a", "\n", "|", "{", "}", "[", "<nowiki>", "</nowiki>", "<!--", "<noinclude>"}, func(s string) {
 		tokens, _ := Scan(s)
 		joined := ""
 		for _, x := range tokens {
