@@ -440,7 +440,7 @@ func wordsSections(s string) []api.Section {
 	return l
 }
 
-// mustBeAsWords checks all functions for s.
+// mustBeAsWords checks all functions but Find for s.
 func mustBeAsWords(t *testing.T, s string) {
 	t.Helper()
 	want := wordsSections(s)
