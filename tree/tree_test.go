@@ -8,6 +8,7 @@ import (
 	"testing"
 
 	"transclude/api"
+	"transclude/sample"
 )
 
 func text(s string) api.Node { return api.Node{Kind: api.NodeText, Text: s} }
@@ -53,21 +54,6 @@ func pieces() []api.Node {
 		param(nil, api.Arg{Name: list(text("u"), text("u")), Value: list(call(nil))}),
 		tag(api.TagIncludeonly, text(""), tag(7, text("h"))), full(api.NodeText), full(api.NodeCall), full(api.NodeTag),
 	}
-}
-
-// allLists calls f with every list of at most n pieces.
-func allLists(n int, f func([]api.Node)) {
-	var extend func(l []api.Node, left int)
-	extend = func(l []api.Node, left int) {
-		f(l)
-		if left == 0 {
-			return
-		}
-		for _, p := range pieces() {
-			extend(append(slices.Clip(l), p), left-1)
-		}
-	}
-	extend(nil, n)
 }
 
 // deep is a list of n levels, one node each.
@@ -150,7 +136,7 @@ func TestSourceOfOtherKindsAndTags(t *testing.T) {
 }
 
 func TestSourceOfConcatenation(t *testing.T) {
-	allLists(2, func(l []api.Node) {
+	sample.Lists(2, pieces(), func(l []api.Node) {
 		var want strings.Builder
 		for _, n := range l {
 			want.WriteString(Source(list(n)))
@@ -311,7 +297,7 @@ func plainJoin(l []api.Node) []api.Node {
 }
 
 func TestJoinAllShortLists(t *testing.T) {
-	allLists(3, func(l []api.Node) {
+	sample.Lists(3, pieces(), func(l []api.Node) {
 		got := Join(l)
 		if want := plainJoin(l); !Equal(got, want) {
 			t.Fatalf("Join(%+v) = %+v, want %+v", l, got, want)
@@ -450,7 +436,7 @@ func TestPlainWithOtherKinds(t *testing.T) {
 // R1, R2 and R9
 
 func TestArgumentsStay(t *testing.T) {
-	allLists(2, func(l []api.Node) {
+	sample.Lists(2, pieces(), func(l []api.Node) {
 		copied := copyNodes(l)
 		Source(l)
 		Join(l)
